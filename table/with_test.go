@@ -116,3 +116,40 @@ func TestWithTellsATableOfItsOwn(t *testing.T) {
 		copy(room, three())
 	}
 }
+
+// brokenTables are none that may be, in each of Check's ways; each of their numbers is at an end somewhere.
+func brokenTables() [][]api.Currency {
+	l := [][]api.Currency{nil, {}, {{}}, many(api.MostCurrencies + 1), withCode(1, "usd"), withCode(2, "EUR")}
+	for place := range three() {
+		for _, n := range []int64{least, -1, most} {
+			l = append(l, withRate(place, n), withCut(place, n))
+		}
+		l = append(l, withRate(place, 0))
+	}
+	return l
+}
+
+// Of tables that may not be the document tells no answer, yet no call panics, and none changes the table.
+func TestNoTablePanics(t *testing.T) {
+	for _, l := range brokenTables() {
+		if Check(l) == api.OK {
+			t.Errorf("%v may be", l)
+		}
+		before := slices.Clone(l)
+		for cur := -1; cur <= len(l); cur++ {
+			for _, amount := range amounts() {
+				Worth(l, cur, amount)
+				Plain(l, cur, amount)
+				for to := -1; to <= len(l); to++ {
+					Change(l, cur, to, amount, false)
+					Change(l, cur, to, amount, true)
+				}
+				WithRate(l, cur, amount)
+				WithCut(l, cur, amount)
+			}
+		}
+		if !slices.Equal(l, before) {
+			t.Errorf("%v has become %v", before, l)
+		}
+	}
+}
